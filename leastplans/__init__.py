@@ -1,0 +1,1 @@
+"""Leastplans: questions answered by plans that nothing undercuts."""

@@ -1,0 +1,81 @@
+"""The columns and aggs that stand in an expression or condition."""
+
+from leastplans.trees import parts_of, with_parts
+
+
+def columns_in(thing):
+    """The columns of an expression or condition, each once, those in aggs too."""
+    found = []
+    for leaf in leaves_of(thing):
+        for column in columns_at(leaf):
+            if column not in found:
+                found.append(column)
+    return tuple(found)
+
+
+def aggs_in(thing):
+    """The aggs of an expression or condition, each once."""
+    found = []
+    for leaf in leaves_of(thing):
+        if leaf[0] == "agg" and leaf not in found:
+            found.append(leaf)
+    return tuple(found)
+
+
+def replaced(thing, table):
+    """The same with table[x] in the place of each column or agg x that is a key of table."""
+    if thing is None:
+        return None
+    nodes = [thing]
+    firsts = []
+    at = 0
+    while at < len(nodes):
+        firsts.append(len(nodes))
+        nodes.extend(parts_of(nodes[at]))
+        at += 1
+    # parts stand behind what they are parts of, so from the end on they are made when asked for
+    made = [None] * len(nodes)
+    for at in range(len(nodes) - 1, -1, -1):
+        many = len(parts_of(nodes[at]))
+        if many == 0:
+            made[at] = leaf_replaced(nodes[at], table)
+        else:
+            made[at] = with_parts(nodes[at], made[firsts[at]:firsts[at] + many])
+    return made[0]
+
+
+def leaf_replaced(leaf, table):
+    """What stands for a column or agg; everything else stays."""
+    if leaf[0] == "col":
+        return table.get(leaf, leaf)
+    if leaf[0] != "agg":
+        return leaf
+    if leaf in table:
+        return table[leaf]
+    return tuple([table.get(piece, piece) if is_column(piece) else piece for piece in leaf])
+
+
+def leaves_of(thing):
+    """What has no parts in an expression or condition, from left to right."""
+    found = []
+    waiting = [] if thing is None else [thing]
+    while waiting:
+        one = waiting.pop()
+        below = parts_of(one)
+        waiting.extend(below[::-1])
+        if not below:
+            found.append(one)
+    return found
+
+
+def columns_at(leaf):
+    """The column that a leaf is, or that its agg has."""
+    if leaf[0] == "col":
+        return [leaf]
+    if leaf[0] == "agg":
+        return [piece for piece in leaf if is_column(piece)]
+    return []
+
+
+def is_column(piece):
+    return isinstance(piece, tuple) and piece != () and piece[0] == "col"

@@ -1,0 +1,81 @@
+"""The interface: names, files, parameters and their sequence, by position and by name."""
+
+import importlib
+import inspect
+import unittest
+
+FUNCTIONS = """
+words: words_of(text)
+exprreading: read_expr(text) expr_from(reading)
+questionreading: read_cond(text) read_question(text) cond_from(reading) question_from(reading)
+showing: shown(question) shown_cond(cond) shown_expr(expr)
+trees: members(cond) joined(conds) height(thing)
+columnsin: columns_in(thing) aggs_in(thing) replaced(thing,table)
+ranks: rank(value) rank_row(row,places) alike(one,other) equal(one,other)
+factkinds: told_facts(columns,facts)
+factchecks: alike_most(rows,places) unlike_many(rows,place) broken(facts,rows)
+rowkinds: told_row(columns,row)
+layings: laid(rows,row,places) laid_anew(rows,places)
+entries: entries_of(rows,places) halved(rows,entries,places,told) stretch(rows,entries,places,told)
+truths: negated(t) perhaps(t) both(s,t) either(s,t) compared(op,one,other)
+folding: folded(fn,column_values)
+ordering: in_order(rows,orders,wide) alike_bags(one,other)
+namings: named(house,question)
+kindings: kind_of_expr(columns,expr) outputs(house,question)
+placings: placed_well(question)
+checking: checked(house,question)
+meanings: value_of(expr,env) truth_of(house,cond,env) loops(house,sources,env)
+meanings: meaning(house,question) names_used(house,question)
+views: make_view(house,name,text)
+"""
+CLASSES = """
+reading: Reading(words) look() ahead(many) take() expect(value) take_name() bad()
+tables: Table(name,columns,facts) lay(row) lift_out(row) add_index(ixname,cols)
+tables: Table(name,columns,facts) drop_index(ixname) retell(facts)
+houses: House() add_table(name,columns,facts) drop(name) add_index(table,ixname,cols)
+houses: House() drop_index(table,ixname) retell(table,facts) put(table,row) take(table,row)
+houses: House() lay_view(name,question,uses) names() kind_of(name) edition(name)
+houses: House() columns_of(table) facts_of(table) lies_of(table) rows_of_table(table)
+houses: House() indexes_of(table) entries_of_index(table,ixname) question_of(name) uses_of(name)
+"""
+
+
+def told(text):
+    """(file, name, list of parameters) of each entry."""
+    for line in text.strip().split("\n"):
+        file, rest = line.split(": ")
+        for one in rest.split():
+            name, parameters = one.rstrip(")").split("(")
+            yield file, name, [each for each in parameters.split(",") if each]
+
+
+class InterfaceTest(unittest.TestCase):
+
+    def parameters(self, function):
+        found = list(inspect.signature(function).parameters.values())
+        for one in found:
+            self.assertEqual(one.kind, inspect.Parameter.POSITIONAL_OR_KEYWORD)
+            self.assertIs(one.default, inspect.Parameter.empty)
+        return [one.name for one in found]
+
+    def test_functions(self):
+        for file, name, parameters in told(FUNCTIONS):
+            with self.subTest(name=name):
+                function = getattr(importlib.import_module(f"leastplans.{file}"), name)
+                self.assertEqual(function.__module__, f"leastplans.{file}")
+                self.assertEqual(self.parameters(function), parameters)
+
+    def test_classes(self):
+        own = None
+        for file, name, parameters in told(CLASSES):
+            with self.subTest(name=name):
+                if name[0].isupper():
+                    own = getattr(importlib.import_module(f"leastplans.{file}"), name)
+                    self.assertEqual(own.__module__, f"leastplans.{file}")
+                    self.assertEqual(self.parameters(own), parameters)
+                else:
+                    self.assertEqual(self.parameters(vars(own)[name])[1:], parameters)
+
+
+if __name__ == "__main__":
+    unittest.main()
