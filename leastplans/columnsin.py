@@ -78,4 +78,4 @@ def columns_at(leaf):
 
 
 def is_column(piece):
-    return isinstance(piece, tuple) and piece != () and piece[0] == "col"
+    return isinstance(piece, tuple) and piece[0] == "col"

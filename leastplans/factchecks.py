@@ -41,4 +41,4 @@ def breaks(fact, rows):
 def is_rising(rows, places):
     """True if no row has a lower rank at places than the one before it."""
     found = [rank_row(row, places) for row in rows]
-    return all(one <= other for one, other in zip(found, found[1:]))
+    return all([one <= other for one, other in zip(found, found[1:])])

@@ -62,7 +62,7 @@ class ExprReadingTest(helper.Case):
             ("count (*", 8), ("count (* *)", 9), ("count (7)", 7), ("count (t)", 8), ("count (t.a", 10),
             ("count (t.a + 1)", 11), ("sum (*)", 5), ("min (*)", 5), ("max ((t.a))", 5), ("sum t.a", 4),
             ("sum (- t.a)", 5), ("avg (t.a)", 4), ("- ", 2), ("-)", 1), ("1 = 2", 2), ("t.a.b", 3),
-            ("1 'x'", 2), ("7.a", 1), ("'x'.a", 3), ("t.a as x", 4), ("not 1", 0), ("t.'a'", 2),
+            ("1 'x'", 2), ("7.a", 1), ("'x'.a", 3), ("t.a as x", 4), ("not 1", 0), ("1 '+' 2", 2), ("1 '*' 2", 2), ("'-' 1", 4), ("'count' (*)", 8), ("t.'a'", 2),
         ), lambda text, at: self.refused(BadText(at), read_expr, text))
 
     def test_what_words_raise_goes_first(self):

@@ -60,7 +60,7 @@ class FactKindsTest(helper.Case):
         for fact in helper.ODD_VALUES + (
             ("Rows", 1), ("rows",), ("rows", 1, 2), ["rows", 1], ("key",), ("key", "a"), ("key", ["a"]),
             ("key", ("a",), 1), ("key", (1,)), ("key", ("a", None)), ("fan", ("a",)), ("fan", "a", 1),
-            ("fan", ("a",), 1, 1), ("fan", 1, ("a",)), ("dist", ("a",), 1), ("dist", "a"), ("dist", 1, "a"),
+            ("fan", ("a",), 1, 1), ("fan", 1, ("a",)), ("dist", ("a",), 1), ("dist", "a"), ("dist", 1, "a"), ("dust", "a", 1), ("key", "a", 1),
             ("dist", None, 1), ("lies",), ("lies", "a"), ("lies", ("a",), 1), ("lies", (("a",),)), (None, 1), (1, "rows"),
             ((), ()), ("size", 1), ("dist", "a", 1, 1), ("key", None), ("lies", True), (["rows"], 1), ("", ("a",)),
         ):

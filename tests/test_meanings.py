@@ -49,6 +49,7 @@ class ValuesTest(helper.Case):
             ("999999999 * 999999999 * 999999999", 999999999 * 999999999 * 999999999),
         ), lambda text, told: self.same(value_of(expr=read_expr(text), env=ENV), told))
         self.same(value_of(read_expr("1"), {}), 1)
+        self.same(ENV, {"t": {"a": 1, "b": None, "x": "q"}, "u": {"a": -7, "y": None}})
 
     def test_truth_of(self):
         house = small()

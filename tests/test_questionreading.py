@@ -228,6 +228,9 @@ class QuestionReadingTest(helper.Case):
             ("with x as (select t.a from t", 28), ("with x as (select t.a from t) from", 30),
             ("with x as (select t.a from t),", 30), ("with x as (select t.a from t), select", 31),
             ("with x as (select t.a from t) with", 30), ("with as (", 5), ("select t.a from t or", 18),
+            ("select 1 + 2 from t", 13), ("select 1 - t.a from t", 15), ("select count (*) * 2, t.a from t", 20),
+            ("select t.a from t 'join' s on 1 = 1", 18), ("select t.a from t where t.a '=' 1", 28),
+            ("select t.a from t where 'not' t.a = 1", 30), ("select t.a from t order by a 'desc'", 29),
         ), lambda text, at: self.refused(BadText(at), read_question, text))
 
     def lists(self, head, one, comma, tail, what, most):
