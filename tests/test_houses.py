@@ -137,6 +137,9 @@ class HouseTest(helper.Case):
         house.lay_view("w", QUESTION, ("s", "v"))
         self.unchanged(house, InUse("v"), house.drop, "v")
         self.unchanged(house, InUse("s"), house.drop, "s")
+        house.lay_view("odd", QUESTION, ("none",))
+        self.unchanged(house, NoName("none"), house.drop, "none")
+        house.drop("odd")
         for name in ("w", "v", "t", "s"):
             house.drop(name)
             self.assertNotIn(name, house.names())
