@@ -3,6 +3,7 @@
 The language of questions is close to SQL; nulls, truths, groups and ranks are the same.
 """
 
+import contextlib
 import random
 import unittest
 
@@ -97,7 +98,8 @@ class SqlTest(helper.Case):
             with self.subTest(number=number, text=text):
                 self.assertEqual(told, outputs(house, question))
                 try:
-                    wanted = database(house).execute(text).fetchall()
+                    with contextlib.closing(database(house)) as base:
+                        wanted = base.execute(text).fetchall()
                 except sqlite3.OperationalError as error:
                     # some versions let no having without group by or agg
                     self.assertIn("HAVING", str(error).upper())
