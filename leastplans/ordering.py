@@ -5,7 +5,8 @@ from leastplans.ranks import rank, rank_row
 
 def in_order(rows, orders, wide):
     """The rows by the told orders, then by all their values."""
-    ranked = [(rank_row(row, range(wide)), row) for row in rows]
+    places = list(range(wide))
+    ranked = [(rank_row(row, places), row) for row in rows]
     found = [row for _, row in sorted(ranked)]
     # the last order first: each later sorting keeps what it does not part in sequence
     for place, way in orders[::-1]:

@@ -44,16 +44,17 @@ BARRED_NODES = (
     ast.Yield, ast.YieldFrom, ast.Set, ast.Div, ast.MatMult, ast.NamedExpr, ast.AnnAssign,
     ast.With, ast.Match, ast.Nonlocal, ast.Import,
 )
-ONE_AT_ONCE = {"zip", "enumerate", "reversed"}
-TAKERS = {"list", "tuple", "dict", "sorted", "sum", "any", "all", "enumerate", "zip", "min", "max"}
+AT_ONCE = {"range", "zip", "enumerate", "reversed", "map"}
+VIEWS = {"items", "keys", "values"}
+FIRST_TAKERS = {"list", "tuple", "dict", "sorted", "sum", "any", "all", "enumerate", "zip"}
+TAKERS = FIRST_TAKERS | {"min", "max"}
 
 
 class Source:
     """A file of the package, parsed."""
 
-    def __init__(self, path):
-        self.path = path
-        self.text = path.read_text(encoding="utf-8")
+    def __init__(self, text):
+        self.text = text
         self.tree = ast.parse(self.text)
         self.nodes = list(ast.walk(self.tree))
         self.parents = {}
@@ -87,8 +88,41 @@ class Source:
         found = [node for node in self.tree.body if isinstance(node, ast.Assign)]
         return [target.id for node in found for target in node.targets]
 
+    def kept_rows(self):
+        """The rows where a range, zip, view or the like is not iterated on the spot (L23)."""
+        found = [node for node in self.of(ast.Call) if is_at_once(node)]
+        return [node.lineno for node in found if not self.is_iterated(node)]
 
-SOURCES = {path.stem: Source(path) for path in sorted(PACKAGE.glob("*.py"))}
+    def is_iterated(self, node):
+        above = self.parents[node]
+        word = node.func.attr if isinstance(node.func, ast.Attribute) else node.func.id
+        if isinstance(above, (ast.For, ast.comprehension)):
+            return above.iter is node
+        if isinstance(above, ast.Compare):
+            ends = isinstance(above.ops[-1], (ast.In, ast.NotIn)) and above.comparators[-1] is node
+            return ends and word in ("range", "keys")
+        if not isinstance(above, ast.Call) or node not in above.args[:1]:
+            return False
+        if isinstance(above.func, ast.Attribute):
+            return above.func.attr == "join" and isinstance(above.func.value, ast.Constant)
+        taker = above.func.id
+        if taker in ("min", "max"):
+            return len(above.args) == 1 and all(one.arg == "default" for one in above.keywords)
+        if taker == "len":
+            return word == "range" or word in VIEWS
+        return taker in FIRST_TAKERS or taker == "reversed" and word == "range"
+
+
+def is_at_once(node):
+    """True for the calls that L23 lets be iterated on the spot alone."""
+    if isinstance(node.func, ast.Attribute):
+        return node.func.attr in VIEWS
+    return isinstance(node.func, ast.Name) and node.func.id in AT_ONCE
+
+
+SOURCES = {
+    path.stem: Source(path.read_text(encoding="utf-8")) for path in sorted(PACKAGE.glob("*.py"))
+}
 
 
 def each_file(check):
@@ -252,20 +286,59 @@ class LanguageTest(unittest.TestCase):
 
     @each_file
     def test_iterated_at_once(self, source):
-        for node in source.of(ast.Call):
-            views = isinstance(node.func, ast.Attribute) and node.func.attr in (
-                "items", "keys", "values")
-            if not views and getattr(node.func, "id", None) not in ONE_AT_ONCE:
-                continue
-            above = source.parents[node]
-            if isinstance(above, ast.Call):
-                self.assertIn(above.func.id, TAKERS)
-            else:
-                self.assertIsInstance(above, (ast.For, ast.comprehension))
+        self.assertEqual(source.kept_rows(), [])
         for node in source.of((ast.GeneratorExp, ast.SetComp)):
             above = source.parents[node]
             self.assertIsInstance(above, ast.Call)
             self.assertIn(above.func.id, TAKERS | {"len"})
+
+    def test_kept_rows(self):
+        """The check of L23 itself: each row by itself."""
+        let = """
+            for k in range(3): pass
+            rows = [row for _, row in zip(xs, ys)]
+            rows = list(range(3))
+            rows = tuple(sorted(d.items()))
+            many = max(d.values(), default=0)
+            many = len(range(3)) + len(d.keys())
+            both = list(zip(list(range(3)), xs))
+            text = ", ".join(d.keys())
+            there = k in range(3) or k not in d.keys()
+            for k in reversed(range(3)): pass
+            for at, (k, v) in enumerate(zip(xs, ys)): pass
+        """
+        barred = """
+            found = rank_row(row, range(3))
+            found = rank_row(places=range(3))
+            found = house.rows_at(zip(xs, ys))
+            kept = range(3)
+            kept = enumerate(xs)
+            kept = (d.items(), 1)
+            kept = [reversed(xs)]
+            kept = {1: map(len, xs)}
+            kept = [range(k) for k in xs]
+            out.extend(range(3))
+            out += d.values()
+            a, b = d.keys()
+            box.rows = d.values()
+            same = d.keys() == names
+            there = k in d.values()
+            many = min(1, range(3))
+            many = max(range(3), key=len)
+            many = len(zip(xs, ys))
+            text = sign.join(d.keys())
+            for k in reversed(d.items()): pass
+            rows = [*range(3)]
+            rows = list(zip(xs, range(3)))
+            first = range(3)[0]
+            call(*d.values())
+        """
+        for row in let.strip().split("\n"):
+            self.assertEqual(Source(row.strip()).kept_rows(), [], row)
+        for row in barred.strip().split("\n"):
+            self.assertEqual(Source(row.strip()).kept_rows(), [1], row)
+        for row in ("return range(3)", "return d.items()", "yield zip(xs, ys)"):
+            self.assertEqual(Source(f"def f():\n    {row}").kept_rows(), [2], row)
 
 
 if __name__ == "__main__":
