@@ -1,6 +1,6 @@
 """The columns and aggs that stand in an expression or condition."""
 
-from leastplans.trees import parts_of, with_parts
+from leastplans.trees import parts_of, rebuilt
 
 
 def columns_in(thing):
@@ -26,22 +26,11 @@ def replaced(thing, table):
     """The same with table[x] in the place of each column or agg x that is a key of table."""
     if thing is None:
         return None
-    nodes = [thing]
-    firsts = []
-    at = 0
-    while at < len(nodes):
-        firsts.append(len(nodes))
-        nodes.extend(parts_of(nodes[at]))
-        at += 1
-    # parts stand behind what they are parts of, so from the end on they are made when asked for
-    made = [None] * len(nodes)
-    for at in range(len(nodes) - 1, -1, -1):
-        many = len(parts_of(nodes[at]))
-        if many == 0:
-            made[at] = leaf_replaced(nodes[at], table)
-        else:
-            made[at] = with_parts(nodes[at], made[firsts[at]:firsts[at] + many])
-    return made[0]
+
+    def change(one):
+        return one if parts_of(one) else leaf_replaced(one, table)
+
+    return rebuilt(thing, change)
 
 
 def leaf_replaced(leaf, table):

@@ -24,6 +24,23 @@ def with_parts(thing, new_parts):
     return thing[:first] + tuple(new_parts) + thing[behind:]
 
 
+def rebuilt(thing, change):
+    """The same with change(one) in the place of each expression and condition in it, parts first."""
+    nodes = [thing]
+    firsts = []
+    at = 0
+    while at < len(nodes):
+        firsts.append(len(nodes))
+        nodes.extend(parts_of(nodes[at]))
+        at += 1
+    # parts stand behind what they are parts of, so from the end on they are made when asked for
+    made = [None] * len(nodes)
+    for at in range(len(nodes) - 1, -1, -1):
+        many = len(parts_of(nodes[at]))
+        made[at] = change(with_parts(nodes[at], made[firsts[at]:firsts[at] + many]))
+    return made[0]
+
+
 def members(cond):
     """The members of a condition, from left to right."""
     found = []

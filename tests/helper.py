@@ -4,8 +4,13 @@ import random
 import unittest
 
 from leastplans import errors
+from leastplans.blocks import Block, Unit, block_of
 from leastplans.houses import House
-from leastplans.questionreading import read_question
+from leastplans.putting import put_in
+from leastplans.questionreading import read_cond, read_question
+from leastplans.raising import raw_of
+from leastplans.raws import RawBlock, RawUnit
+from leastplans.trees import rebuilt
 from leastplans.views import make_view
 
 FIELDS = {
@@ -51,6 +56,8 @@ def kinds(value):
         return (type(value).__name__, [kinds(one) for one in value])
     if isinstance(value, dict):
         return ("dict", [(kinds(key), kinds(value[key])) for key in value])
+    if isinstance(value, (RawBlock, RawUnit, Block, Unit)):
+        return (type(value).__name__, kinds(vars(value)))
     return (type(value).__name__, value)
 
 
@@ -61,6 +68,60 @@ def outcome(call, *told):
     except errors.PlanError as error:
         fields = [kinds(getattr(error, field)) for field in FIELDS[type(error)]]
         return (type(error).__name__, fields)
+
+
+def block(house, text):
+    return block_of(house, read_question(text))
+
+
+def raw(house, text, outermost=True):
+    return raw_of(house, put_in(house, read_question(text)), outermost)
+
+
+def col(u, c):
+    return ("col", u, c)
+
+
+def mark(m):
+    return ("mark", m)
+
+
+def over(text):
+    """A condition over columns: u0.c3 is col(0, 3)."""
+    def change(one):
+        return col(int(one[1][1:]), int(one[2][1:])) if one[0] == "col" else one
+    return rebuilt(read_cond(text), change)
+
+
+def over_marks(text):
+    """A condition over marks: m.m3 is mark(3)."""
+    def change(one):
+        return mark(int(one[2][1:])) if one[0] == "col" else one
+    return rebuilt(read_cond(text), change)
+
+
+def units_raw(*kinds_told):
+    """Units over the table t, each told as its kind or as (kind, conds)."""
+    found = []
+    for told in kinds_told:
+        kind, conds = (told, ()) if isinstance(told, str) else told
+        found.append(RawUnit(kind, ("table", "t"), conds))
+    return tuple(found)
+
+
+def raw_block(units, **more):
+    """A RawBlock with these units, and the fields that are told; the others are as of nothing."""
+    told = {
+        "tests": (), "grouped": False, "groups": (), "aggs": (), "having": (), "outs": (),
+        "outnames": (), "outkinds": (), "orders": (), "limit": None, "listed": False,
+        "distinct": False, **more,
+    }
+    return RawBlock(units=units, **told)
+
+
+def block_in(inner, kind="core", conds=()):
+    """A unit whose source is a raw block."""
+    return RawUnit(kind, inner, conds)
 
 
 def number_columns(names, free):

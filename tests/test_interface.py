@@ -27,6 +27,18 @@ checking: checked(house,question)
 meanings: value_of(expr,env) truth_of(house,cond,env) loops(house,sources,env)
 meanings: meaning(house,question) names_used(house,question)
 views: make_view(house,name,text)
+putting: put_in(house,question) used(house,question)
+raising: raw_of(house,question,outermost)
+strictness: possible(cond,unit) never_on_nulls(cond,unit)
+merging: can_merge(raw,unit) merged(raw,unit)
+turning: by_turns(raw) distinct_turned(raw) having_moved(raw)
+marking: classes_of(raw) fixed_of(raw)
+inward: copied_in(raw,classes,fixed)
+worths: mark_value(expr,worth,folds) mark_truth(cond,worth,folds)
+blockmeanings: means_rows(house,block) means(house,block)
+blocks: block_of(house,question)
+lifts: lift(number) bits(number)
+unitmarks: mark_of(unit,place) bound_of(block,u) pairs_of(block,u) row_marks(block,u)
 """
 CLASSES = """
 reading: Reading(words) look() ahead(many) take() expect(value) take_name() bad()
@@ -37,6 +49,8 @@ houses: House() drop_index(table,ixname) retell(table,facts) put(table,row) take
 houses: House() lay_view(name,question,uses) names() kind_of(name) edition(name)
 houses: House() columns_of(table) facts_of(table) lies_of(table) rows_of_table(table)
 houses: House() indexes_of(table) entries_of_index(table,ixname) question_of(name) uses_of(name)
+raws: RawUnit(kind,source,conds)
+raws: RawBlock(units,tests,grouped,groups,aggs,having,outs,outnames,outkinds,orders,limit,listed,distinct) bare()
 """
 
 
@@ -64,6 +78,14 @@ class InterfaceTest(unittest.TestCase):
                 function = getattr(importlib.import_module(f"leastplans.{file}"), name)
                 self.assertEqual(function.__module__, f"leastplans.{file}")
                 self.assertEqual(self.parameters(function), parameters)
+
+    def test_classes_alone(self):
+        """Classes that are not called from outside, with their methods."""
+        for file, name, methods in [("blocks", "Block", ["bare"]), ("blocks", "Unit", [])]:
+            own = getattr(importlib.import_module(f"leastplans.{file}"), name)
+            self.assertEqual(own.__module__, f"leastplans.{file}")
+            for method in methods:
+                self.assertEqual(self.parameters(vars(own)[method])[1:], [])
 
     def test_classes(self):
         own = None
