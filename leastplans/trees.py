@@ -24,8 +24,8 @@ def with_parts(thing, new_parts):
     return thing[:first] + tuple(new_parts) + thing[behind:]
 
 
-def rebuilt(thing, change):
-    """The same with change(one) in the place of each expression and condition in it, parts first."""
+def reduced(thing, step):
+    """What step(one, results) gives at last: results are what it gave of the parts of one."""
     nodes = [thing]
     firsts = []
     at = 0
@@ -37,8 +37,16 @@ def rebuilt(thing, change):
     made = [None] * len(nodes)
     for at in range(len(nodes) - 1, -1, -1):
         many = len(parts_of(nodes[at]))
-        made[at] = change(with_parts(nodes[at], made[firsts[at]:firsts[at] + many]))
+        made[at] = step(nodes[at], made[firsts[at]:firsts[at] + many])
     return made[0]
+
+
+def rebuilt(thing, change):
+    """The same with change(one) in the place of each expression and condition in it, parts first."""
+    def step(one, new_parts):
+        return change(with_parts(one, new_parts))
+
+    return reduced(thing, step)
 
 
 def members(cond):

@@ -5,9 +5,11 @@ import unittest
 
 import helper
 from helper import over_marks
+from leastplans.blockmeanings import means
 from leastplans.columnsin import columns_in, replaced
 from leastplans.meanings import truth_of
 from leastplans.questionreading import read_cond
+from leastplans.views import make_view
 from leastplans.worths import mark_truth, mark_value
 
 WORTH = {0: 5, 3: None, 7: "x"}
@@ -66,6 +68,17 @@ class WorthsTest(helper.Case):
             worth[7] = chance.choice((None, "", "a", "b"))
             env = {"m": {f"m{at}": worth[at] for at in worth}}
             self.same(mark_truth(marked(cond), worth, ()), truth_of(house, cond, env))
+
+    def test_deep(self):
+        """Outputs put in, one in the other, make expressions far deeper than a text can."""
+        house = helper.shop(rows=True)
+        ones = " + 1" * 39
+        make_view(house, "v0", "select t.b from t")
+        for at in range(6):
+            make_view(house, f"v{at + 1}", f"select v{at}.b{ones} as b from v{at}")
+        block = helper.block(house, "select v6.b - 1 as c from v6 where v6.b > 240")
+        self.same(len(block.units), 1)
+        self.same(means(house, block), [(7 + 6 * 39 - 1,)])
 
 
 def marked(cond):
