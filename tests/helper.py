@@ -318,3 +318,84 @@ def chance_questions(seed, many, deep=2):
         except errors.BadText as error:
             raise AssertionError(text[error.at:] + " of " + text)
     return found
+
+
+class JoinQuestions(Questions):
+    """Questions with more equalities, and numbers told, than others."""
+
+    def cond(self, seen, deep=2):
+        if self.maybe(0.4):
+            return super().cond(seen, deep)
+        kind = self.chance.choice(("number", "number", "text"))
+        left, right = self.column(seen, kind), self.column(seen, kind)
+        if left is None or self.maybe(0.25):
+            told = self.chance.choice(("0", "1") if kind == "number" else ("'a'", "''"))
+            return f"{left or told} = {told}" if self.maybe(0.5) else f"{told} = {left or told}"
+        return " and ".join([f"{left} = {right}"] + ([super().cond(seen, 0)] if self.maybe(0.2) else []))
+
+
+def join_questions(seed, many):
+    """The same of JoinQuestions."""
+    maker = JoinQuestions(seed)
+    found = []
+    while len(found) < many:
+        try:
+            found.append(read_question(maker.question(2, listed=0.3)[0]))
+        except errors.TooMuch:
+            pass
+    return found
+
+
+def tell_facts(house, chance):
+    """Facts and indexes by chance for the tables of a house like store()."""
+    for table in ("t", "s", "p"):
+        columns = house.columns_of(table)
+        names = [name for name, _, _ in columns]
+        facts = [("rows", chance.choice((0, 1, 2, 3, 4, 6, 9)))]
+        for _ in range(chance.randrange(4)):
+            some = tuple(chance.sample(names, chance.randrange(1, len(names) + 1)))
+            facts.append(chance.choice((("fan", some, chance.choice((1, 2, 3))),
+                                        ("dist", some[0], chance.choice((1, 2, 3))))))
+        bound = tuple(name for name, _, free in columns if not free)
+        if chance.random() < 0.5:
+            facts.append(("key", bound))
+        if chance.random() < 0.5:
+            facts.append(("lies", tuple(chance.sample(names, chance.randrange(1, len(names) + 1)))))
+        chance.shuffle(facts)
+        house.retell(table, tuple(facts))
+        for at in range(chance.randrange(3)):
+            house.add_index(table, f"ix{at}", tuple(chance.sample(names, chance.randrange(1, min(3, len(names)) + 1))))
+
+
+def chance_blocks(seed, many):
+    """Pairs (house, block) of blocks by chance, inner ones too, with facts and indexes by chance."""
+    chance = random.Random(seed)
+    found = []
+    for question in chance_questions(seed, many) + join_questions(seed, many):
+        house = store()
+        tell_facts(house, chance)
+        try:
+            waiting = [block_of(house, question)]
+        except errors.TooMuch:
+            continue
+        while waiting:
+            one = waiting.pop()
+            found.append((house, one))
+            waiting.extend(unit.source for unit in one.units if isinstance(unit.source, Block))
+    return found
+
+
+def put_let(house, chance, many):
+    """Puts rows by chance, as far as the facts let them."""
+    for table in ("t", "s", "p"):
+        for number in range(many):
+            row = []
+            for name, kind, free in house.columns_of(table):
+                if free and chance.random() < 0.2:
+                    row.append(None)
+                else:
+                    row.append(chance.choice((0, 1, 2) if kind == "number" else ("", "a", "b")))
+            try:
+                house.put(table, tuple(row))
+            except errors.FactBroken:
+                pass

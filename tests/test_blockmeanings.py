@@ -1,18 +1,16 @@
 """[47] The meaning of blocks, beside that of questions and beside a slow one. G3 of [11]."""
 
-import itertools
 import random
 import unittest
 
 import helper
+import slow
 from leastplans.blockmeanings import means, means_rows
 from leastplans.blocks import block_of
 from leastplans.errors import TooMuch
-from leastplans.marks import marks_in_all
 from leastplans.meanings import meaning
 from leastplans.ordering import alike_bags
 from leastplans.questionreading import read_question
-from leastplans.worths import mark_truth
 
 SHOP_CASES = [
     ("select t.a, sum (t.b) as x, count (*) as n from t join s on t.a = s.a group by t.a", [(1, 24, 4)]),
@@ -40,82 +38,12 @@ SHOP_CASES = [
 
 
 def slow_rows(house, block):
-    """means_rows by the words of [7] alone: each choice of places is looked at."""
-    sources = []
-    for unit in block.units:
-        if isinstance(unit.source, str):
-            sources.append(house.rows_of_table(unit.source))
-        else:
-            sources.append(means(house, unit.source))
-    cores = [u for u, unit in enumerate(block.units) if unit.kind == "core"]
-    lefts = [u for u, unit in enumerate(block.units) if unit.kind == "left"]
-    choices = [list(range(len(sources[u]))) for u in cores]
-    choices += [[None] + list(range(len(sources[u]))) for u in lefts]
+    """means_rows by the words of [7] alone."""
+    every = list(range(len(block.units)))
     found = []
-    for chosen in itertools.product(*choices):
-        places = dict(zip(cores + lefts, chosen))
-        worth = slow_worth(block, sources, places)
-        if worth is not None and slow_fits(block, sources, places, worth):
-            every = tuple([places.get(u, 0) for u in range(len(block.units))])
-            found.append((every, tuple([worth[mark] for mark in sorted(worth)])))
-    return found
-
-
-def slow_worth(block, sources, places):
-    """The values of all marks, None where two of core columns are not equal."""
-    worth = {}
-    fixed = dict(block.fixed)
-    for u in places:
-        for place, mark in block.units[u].cols:
-            value = None if places[u] is None else sources[u][places[u]][place]
-            if block.units[u].kind == "core":
-                if mark in fixed and fixed[mark] != value:
-                    return None
-                if mark in worth and (value is None or worth[mark] != value):
-                    return None
-            worth[mark] = value
-    return worth
-
-
-def slow_fits(block, sources, places, worth):
-    for u, unit in enumerate(block.units):
-        if unit.kind == "core":
-            continue
-        fitting = []
-        for at, row in enumerate(sources[u]):
-            longer = {**worth, **{mark: row[place] for place, mark in unit.cols}}
-            if all(mark_truth(cond, longer, ()) is True for cond in unit.own + unit.ties):
-                fitting.append(at)
-        if unit.kind == "left" and places[u] not in (fitting or [None]):
-            return False
-        if unit.kind != "left" and (unit.kind == "semi") != bool(fitting):
-            return False
-    assert all(mark in worth for mark in marks_in_all(block.tests))
-    return all(mark_truth(test, worth, ()) is True for test in block.tests)
-
-
-class JoinQuestions(helper.Questions):
-    """Questions with more equalities, and numbers told, than those of helper."""
-
-    def cond(self, seen, deep=2):
-        if self.maybe(0.4):
-            return super().cond(seen, deep)
-        kind = self.chance.choice(("number", "number", "text"))
-        left, right = self.column(seen, kind), self.column(seen, kind)
-        if left is None or self.maybe(0.25):
-            told = self.chance.choice(("0", "1") if kind == "number" else ("'a'", "''"))
-            return f"{left or told} = {told}" if self.maybe(0.5) else f"{told} = {left or told}"
-        return " and ".join([f"{left} = {right}"] + ([super().cond(seen, 0)] if self.maybe(0.2) else []))
-
-
-def questions(seed, many):
-    maker = JoinQuestions(seed)
-    found = []
-    while len(found) < many:
-        try:
-            found.append(read_question(maker.question(2, listed=0.3)[0]))
-        except TooMuch:
-            pass
+    for places, worth in slow.assignments(house, block, every):
+        told = tuple([places.get(u, 0) for u in every])
+        found.append((told, tuple([worth[mark] for mark in sorted(worth)])))
     return found
 
 
@@ -161,7 +89,7 @@ class MeansTest(helper.Case):
     def test_rows_beside_slow_ones(self):
         chance = random.Random(471)
         many = 0
-        for question in questions(472, 250):
+        for question in helper.join_questions(472, 250):
             house = helper.store()
             helper.fill(house, chance, 3)
             try:
@@ -198,7 +126,7 @@ class MeansTest(helper.Case):
     def test_beside_meaning(self):
         chance = random.Random(473)
         blocks = rows = 0
-        for number, question in enumerate(helper.chance_questions(474, 500) + questions(475, 700)):
+        for number, question in enumerate(helper.chance_questions(474, 500) + helper.join_questions(475, 700)):
             with self.subTest(number=number):
                 one, more = self.beside_meaning(question, chance, (3, 5, 7))
                 blocks += one

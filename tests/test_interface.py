@@ -39,6 +39,22 @@ blockmeanings: means_rows(house,block) means(house,block)
 blocks: block_of(house,question)
 lifts: lift(number) bits(number)
 unitmarks: mark_of(unit,place) bound_of(block,u) pairs_of(block,u) row_marks(block,u)
+keeping: marks_in(block,units) is_closed(block,units) ready(block,units) kept(block,units)
+states: units_of(state) is_side(state) seen(block,state) whole_state(block) all_states(block)
+ceilings: ceiling(block,state,marks) fan_of(block,u,places) dist_of(block,u,place)
+bookings: booking(block,state,marks)
+bookchecks: booking_fits(block,state,marks,paper) booked(paper)
+wantings: wanted(sizes,state) way_of(block) matched(block,order)
+wantings: is_settled(sizes,state,order) run_of(sizes,state,order)
+leafsteps: why_leaf(sizes,step) leaf_told(sizes,step) inner_told(sizes,u,order)
+joinsteps: why_join(sizes,word,left,right) join_told(sizes,word,left,right)
+joinsteps: why_look(sizes,left,u,ixname,many) look_told(sizes,left,u,ixname,many)
+onesteps: why_sort(sizes,child,is_sorted,marks) sort_told(sizes,child,marks)
+onesteps: why_squeeze(sizes,word,child) squeeze_told(sizes,word,child)
+topsteps: why_give(sizes,word,child) give_told(sizes,word,child)
+planshapes: shape_of(plan) top_shape(top)
+judging: judged(block,plan) judged_top(block,top)
+plantexts: plan_text(top)
 """
 CLASSES = """
 reading: Reading(words) look() ahead(many) take() expect(value) take_name() bad()
@@ -51,6 +67,8 @@ houses: House() columns_of(table) facts_of(table) lies_of(table) rows_of_table(t
 houses: House() indexes_of(table) entries_of_index(table,ixname) question_of(name) uses_of(name)
 raws: RawUnit(kind,source,conds)
 raws: RawBlock(units,tests,grouped,groups,aggs,having,outs,outnames,outkinds,orders,limit,listed,distinct) bare()
+ceilings: Ceilings(block) by(state,marks) bag_size(state) fan(u,places) dist(u,place) marks_at(units)
+ceilings: Ceilings(block) ready_at(units) kept_at(units) seen_at(state) pairs_at(u) bound_at(u)
 """
 
 
