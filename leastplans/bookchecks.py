@@ -1,9 +1,7 @@
 """Whether any value is a booking."""
 
-from leastplans.ceilings import (
-    Ceilings, fan_places, factor_apart, factor_as_it_is, kept_known, known_marks, may_stand,
-    number_of, parts_counted, told_by,
-)
+from leastplans.ceilings import Ceilings, factor_apart, factor_as_it_is, fan_places, number_of, told_by
+from leastplans.ceilings import kept_known, known_marks, may_stand, parts_counted
 from leastplans.plain import same_value
 from leastplans.states import as_they_are
 from leastplans.unitmarks import has_table

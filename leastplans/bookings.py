@@ -1,8 +1,6 @@
 """Bookings: why a ceiling holds, part by part."""
 
-from leastplans.ceilings import (
-    Ceilings, fan_places, factor_apart, kept_known, number_of, told_by,
-)
+from leastplans.ceilings import Ceilings, factor_apart, fan_places, kept_known, number_of, told_by
 from leastplans.states import as_they_are
 from leastplans.unitmarks import has_table
 

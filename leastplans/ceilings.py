@@ -68,39 +68,28 @@ class Ceilings:
         return self.answers[key]
 
     def marks_at(self, units):
-        key = ("marks", units)
-        if key not in self.answers:
-            self.answers[key] = marks_in(self.block, units)
-        return self.answers[key]
+        return self.answer_once("marks", marks_in, units)
 
     def ready_at(self, units):
-        key = ("ready", units)
-        if key not in self.answers:
-            self.answers[key] = ready(self.block, units)
-        return self.answers[key]
+        return self.answer_once("ready", ready, units)
 
     def kept_at(self, units):
-        key = ("kept", units)
-        if key not in self.answers:
-            self.answers[key] = kept(self.block, units)
-        return self.answers[key]
+        return self.answer_once("kept", kept, units)
 
     def seen_at(self, state):
-        key = ("seen", state)
-        if key not in self.answers:
-            self.answers[key] = seen(self.block, state)
-        return self.answers[key]
+        return self.answer_once("seen", seen, state)
 
     def pairs_at(self, u):
-        key = ("pairs", u)
-        if key not in self.answers:
-            self.answers[key] = pairs_of(self.block, u)
-        return self.answers[key]
+        return self.answer_once("pairs", pairs_of, u)
 
     def bound_at(self, u):
-        key = ("bound", u)
+        return self.answer_once("bound", bound_of, u)
+
+    def answer_once(self, word, answer, asked):
+        """What a function of the block and asked returns; it is called but once."""
+        key = (word, asked)
         if key not in self.answers:
-            self.answers[key] = bound_of(self.block, u)
+            self.answers[key] = answer(self.block, asked)
         return self.answers[key]
 
     def inside(self, u):

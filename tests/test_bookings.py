@@ -138,9 +138,25 @@ class BookingTest(helper.Case):
             self.same(booking_fits(block, state, (), (FIRST, (((1,), 0), (0,), factor, reason))), False)
         # a left unit stands behind its need, even where its need is among the marks
         self.same(booking_fits(block, state, (0,), (
-            (((1,), 0), (0,), 1, ("rows", 0)), (((0,), 0), (0,), 1000, ("rows", 1000)))), False)
+            (((1,), 0), (0,), 1, ("rows", 0)), (((0,), 0), (0, 1), 1000, ("rows", 1000)))), False)
         block = helper.block(house, "select t.a from t left join (select s.a from s limit 0) u on u.a = t.a")
         self.same(booking(block, state, ()), (FIRST, (((1,), 0), (0,), 1, ("block", 0))))
+
+
+    def test_left_ahead_of_core(self):
+        """A core unit behind a left one may bear its need; it goes first."""
+        block = helper.block(helper.store(), "select t.x from t left join s on s.a = t.a join p on p.k = t.a")
+        self.same([unit.kind for unit in block.units], ["core", "left", "core"])
+        left, core = ((1,), 0), ((2,), 0)
+        paper = booking(block, (left, core), ())
+        self.same([line[0] for line in paper], [core, left])
+        self.same(booking_fits(block, (left, core), (), paper), True)
+        self.same(booking_fits(block, (left, core), (0,), (
+            (left, (0,), 100, ("rows", 100)), (core, (0, 3), 1, ("key", (0,))))), False)
+        block = helper.block(helper.store(), "select count (*) as n from t left join s on s.a = t.a join p on p.k = t.a")
+        squeezed = ((1, 2), 1)
+        self.same(booking(block, (squeezed,), ()), ((squeezed, (), 100, ("apart", 100)),))
+        self.same(booked(booking(block, (((0,), 0), squeezed), ())), 100)
 
 
 class FitsTest(helper.Case):

@@ -142,6 +142,15 @@ class StatesTest(helper.Case):
             (u0,), (q0,), (u0, u1), (q0, u1), (q01,),
             (u0, u1, u2), (q0, u1, u2), (q01, u2), (q012,)))
 
+    def test_left_ahead_of_core(self):
+        """The need of a left unit may be borne by a core unit behind it."""
+        block = helper.block(helper.store(), "select t.x from t left join s on s.a = t.a join p on p.k = t.a")
+        self.same([units_of(state) for state in all_states(block)],
+                  [(0,), (2,), (0, 1), (0, 2), (1, 2), (0, 1, 2)])
+        block = helper.block(helper.store(), "select count (*) as n from t left join s on s.a = t.a join p on p.k = t.a")
+        self.same([state for state in all_states(block) if units_of(state) == (1, 2)],
+                  [(((1,), 0), ((2,), 0)), (((1,), 0), ((2,), 1)), (((1, 2), 1),)])
+
     def test_how_many(self):
         """G13 of [11]."""
         bells = [1, 1, 2, 5, 15, 52, 203, 877]

@@ -43,7 +43,7 @@ class MarkingTest(helper.Case):
         self.classes(raw, ((0, 0), (1, 0)))
 
     def test_no_links(self):
-        for text in ("u0.c0 = u0.c0", "u0.c0 = u3.c0", "u3.c0 = u3.c1", "u0.c0 <= u1.c0",
+        for text in ("u0.c0 = u0.c0", "u0.c0 = u3.c0", "u3.c1 = u1.c0", "u3.c0 = u3.c1", "u0.c0 <= u1.c0",
                      "u0.c0 = u1.c0 or 1 = 2", "not u0.c0 = u1.c0", "u0.c0 = u1.c0 + 0", "maybe u0.c0 = u1.c0"):
             with self.subTest(text=text):
                 raw = raw_block(CORES, tests=tests(text))

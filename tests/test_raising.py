@@ -94,8 +94,11 @@ class RaisingTest(helper.Case):
         found = self.raw("select u.a from (select t.a from t order by a) u, (select t.a from t limit 4) w")
         self.units(found, ("core", T, ()), ("core", None, ()))
         self.same((found.units[1].source.listed, found.listed), (True, False))
-        found = self.raw("select t.a from t where t.a in (select s.c from s order by c)")
-        self.same(found.units[1].source.listed, False)
+        for text in ("select t.a from t where t.a in (select s.c from s order by c)",
+                     "select t.a from t, (select s.c, count (*) as n from s group by s.c order by n) u order by a",
+                     "select t.a from t left join (select s.c from s order by c) u on u.c = t.a limit 2"):
+            found = self.raw(text)
+            self.same((found.units[1].source.listed, found.units[1].source.orders), (False, ()))
 
     def test_in(self):
         found = self.raw(
