@@ -1,5 +1,6 @@
 """Slow ways to what the program tells, by the words of the document alone."""
 
+import functools
 import itertools
 
 from leastplans.blockmeanings import means
@@ -73,6 +74,10 @@ def bears(block, u):
 
 def marks_of(block, units):
     return set().union(*[bears(block, u) for u in units])
+
+
+def set_of_marks(thing):
+    return set(marks_in_all((thing,)))
 
 
 def closed(block, units):
@@ -183,6 +188,11 @@ def bound(block, u):
 
 
 def ceiling(block, state, marks):
+    return ceiling_by(block, state, frozenset(marks))
+
+
+@functools.lru_cache(maxsize=100000)
+def ceiling_by(block, state, marks):
     if state[0] == "side":
         u = state[1]
         let = set(marks) | bound(block, u)
