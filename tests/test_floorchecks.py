@@ -195,7 +195,7 @@ class FitTest(helper.Case):
             told.add(word)
             self.broken(block, changed, word, *whats)
             self.same(floors_fit(block, (inner, raised + (("made", T, (9,), 0),), price), ()), ("form", None))
-        self.same(told, set(sequence[:-1]))
+        self.same(told, set(sequence))
 
     def test_what_is_least(self):
         """Each of several reasons for one row: the greatest number that fits is that of the least one."""
