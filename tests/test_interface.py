@@ -55,6 +55,23 @@ topsteps: why_give(sizes,word,child) give_told(sizes,word,child)
 planshapes: shape_of(plan) top_shape(top)
 judging: judged(block,plan) judged_top(block,top)
 plantexts: plan_text(top)
+planreadings: read_plan(text)
+folds: added(fn,one,other) scaled(fn,weight,fold) single(fn,value)
+takings: leaf_row(block,u,row)
+listings: rows_of(house,block,plan) answer_of(house,block,top)
+leafways: leaf_ways(sizes,barred)
+stepways: over_one(sizes,child,barred) over_two(sizes,left,right,barred)
+stepways: sorts_over(sizes,child,barred) gives_over(sizes,child)
+choosing: least(block,barred)
+founds: floors_from(memo,inner,price)
+floorrows: is_floors(thing)
+floorchecks: floors_fit(block,floors,barred)
+floorreads: floor_of(floors,state,order) give_floor(floors,order)
+stepceilings: step_ceilings(block,top)
+countings: sorted_counted(rows,ranks)
+opening: open_run(house,block,plan) open_top(house,block,top) line_runs(run)
+cursors: drained(cursor)
+explaining: explained(block,top)
 """
 CLASSES = """
 reading: Reading(words) look() ahead(many) take() expect(value) take_name() bad()
@@ -69,6 +86,30 @@ raws: RawUnit(kind,source,conds)
 raws: RawBlock(units,tests,grouped,groups,aggs,having,outs,outnames,outkinds,orders,limit,listed,distinct) bare()
 ceilings: Ceilings(block) by(state,marks) bag_size(state) fan(u,places) dist(u,place) marks_at(units)
 ceilings: Ceilings(block) ready_at(units) kept_at(units) seen_at(state) pairs_at(u) bound_at(u)
+listjoins: JoinSight(sizes,left_state,right_state) row_fits(left,right) row_of_both(left,right) row_of_nulls(left)
+memotables: Memo(sizes,barred) made(state) whole(state) tops()
+founds: Found(top,price,floors)
+cursors: Cursor(house,block,top) page(size) done() total() lines()
+keptplans: Kept(used,block,found)
+desks: Desk(house) block_told(text) plan_of(text) price_of(text) floors_of(text) explain(text) cursor_of(text)
+desks: Desk(house) ask(text) hand(text,plantext) is_kept(text) made()
+"""
+# classes that are not called from outside, with the methods that stand in their own bodies
+ALONE = """
+blocks: Block() bare()
+blocks: Unit()
+runleaves: ScanRun() pull()
+runleaves: WalkRun() pull()
+runleaves: SeekRun() pull()
+runleaves: InnerRun() pull()
+runjoins: LoopRun() pull()
+runjoins: HashRun() pull()
+runjoins: MergeRun() pull()
+runlooks: LookRun() pull()
+runsqueezes: BagRun() pull()
+runsqueezes: StreamRun() pull()
+runsorts: SortRun() pull()
+rungives: GiveRun() pull()
 """
 
 
@@ -98,12 +139,13 @@ class InterfaceTest(unittest.TestCase):
                 self.assertEqual(self.parameters(function), parameters)
 
     def test_classes_alone(self):
-        """Classes that are not called from outside, with their methods."""
-        for file, name, methods in [("blocks", "Block", ["bare"]), ("blocks", "Unit", [])]:
-            own = getattr(importlib.import_module(f"leastplans.{file}"), name)
-            self.assertEqual(own.__module__, f"leastplans.{file}")
-            for method in methods:
-                self.assertEqual(self.parameters(vars(own)[method])[1:], [])
+        own = None
+        for file, name, parameters in told(ALONE):
+            if name[0].isupper():
+                own = getattr(importlib.import_module(f"leastplans.{file}"), name)
+                self.assertEqual(own.__module__, f"leastplans.{file}")
+            else:
+                self.assertEqual(self.parameters(vars(own)[name])[1:], parameters)
 
     def test_classes(self):
         own = None
