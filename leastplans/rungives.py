@@ -73,4 +73,4 @@ def wanted_ranks(block, rows):
             places = {one: at for at, one in enumerate(falling)}
             ranks = [places[one] for one in ranks]
         columns.append(ranks)
-    return [tuple([ranks[at] for ranks in columns]) for at in range(len(rows))]
+    return [tuple([column[at] for column in columns]) for at in range(len(rows))]
