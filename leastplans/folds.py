@@ -9,7 +9,7 @@ def single(fn, value):
 
 
 def added(fn, one, other):
-    """The fold of what two folds are of; null counts for nothing."""
+    """The fold of what two folds are of; null counts for nothing, and an agg that is not there stays None."""
     if one is None or other is None:
         return other if one is None else one
     if fn in ("count", "sum"):

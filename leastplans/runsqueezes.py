@@ -34,7 +34,6 @@ class StreamRun(Run):
             whole = self.so_far
             if row is None:
                 self.is_dry = True
-                self.so_far = None
             else:
                 self.spent += 1
                 is_more = whole is not None and whole[0] == self.squeezer.key_of(row)

@@ -9,7 +9,7 @@ class Squeezer:
 
     def __init__(self, sizes, units, marks):
         self.places = [marks.index(mark) for mark in sizes.kept_at(units)]
-        self.fns = [(fn, u in units) for fn, u, _ in sizes.block.aggs]
+        self.fns = [fn for fn, _, _ in sizes.block.aggs]
 
     def key_of(self, row):
         """The values that rows share which become one."""
@@ -19,9 +19,7 @@ class Squeezer:
         """What has become one so far, None at first, with one more row."""
         if whole is None:
             return (self.key_of(row), row[1], row[2])
-        folds = []
-        for (fn, is_there), one, other in zip(self.fns, whole[2], row[2]):
-            folds.append(added(fn, one, other) if is_there else None)
+        folds = [added(fn, one, other) for fn, one, other in zip(self.fns, whole[2], row[2])]
         return (whole[0], whole[1] + row[1], tuple(folds))
 
     def squeezed_rows(self, rows):

@@ -148,6 +148,7 @@ class SightTest(helper.Case):
             sight = self.sight(text, squeezed(0), ("side", 1))
             left = (("p", 1, 2) if self.seen[0] == (2, 0, 1) else (1, 2, "p"), 3, (None,))
             self.both(sight, left, ((1, 3), 1, (None,)), left)
+            self.assertIs(sight.row_of_both(left, ((1, 3), 1, (None,))), left)
             for values in ((1, 2), (2, 3), (None, 3), (1, None)):
                 self.fits(sight, left, (values, 1, (None,)), False)
         text = "select t.b from t where t.b not in (select s.c from s)"

@@ -125,6 +125,8 @@ class ReadPlanTest(helper.Case):
                 lines = good.split("\n")
                 lines[at] = wrong
                 self.refuse(at, "\n".join(lines))
+        for wrong in ("\t\tscan 0", "..scan 0", " 0scan 0", "0 scan 0", "\n\nscan 0"[1:], "givescan 0"):
+            self.refuse(1, "give\n" + wrong)
         for wrong in ("look  2 x 1", "look 2  x 1", "look 2 x  1", "look\t2 x 1"):
             self.refuse(1, good.replace("look 2 x 1", wrong))
         self.refuse(2, good.replace("sort 1 2", "sort 1  2"))
