@@ -6,7 +6,7 @@ from leastplans.joinways import joins_over, splits
 from leastplans.leafsteps import inner_told
 from leastplans.leafways import leaf_ways
 from leastplans.memotables import inner_units
-from leastplans.states import SIDE, all_states, is_side, is_squeezed_alone, seen, whole_state
+from leastplans.states import SIDE, all_states, seen, whole_state
 from leastplans.stepways import gives_over, looks_over, sorts_over, squeezes_over
 
 
@@ -107,22 +107,20 @@ def asked_joins(table):
     """Those by joins; of joins that ask for one state and order the least stand for all."""
     found = []
     for state in all_states(table.sizes.block):
-        if not is_squeezed_alone(state):
-            for left, right in splits(table.sizes.block, state):
-                told = joins_over(
-                    table.sizes, left, table.orders_of("all", left), right,
-                    table.orders_of("all", right), table.barred)
-                found.extend([("made", state, order, number) for _, order, _, number in told])
+        for left, right in splits(table.sizes.block, state):
+            told = joins_over(
+                table.sizes, left, table.orders_of("all", left), right,
+                table.orders_of("all", right), table.barred)
+            found.extend([("made", state, order, number) for _, order, _, number in told])
     return found
 
 
 def asked_looks(table):
     found = []
     for left in list(table.numbers["all"]):
-        if not is_side(left):
-            orders = table.orders_of("all", left)
-            for _, state, _, price in looks_over(table.sizes, (left, ()), table.barred):
-                found.extend([("made", state, order, orders[order] + price) for order in orders])
+        orders = table.orders_of("all", left)
+        for _, state, _, price in looks_over(table.sizes, (left, ()), table.barred):
+            found.extend([("made", state, order, orders[order] + price) for order in orders])
     return found
 
 

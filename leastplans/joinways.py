@@ -43,9 +43,10 @@ def child_state(block, parts):
         return None
     if is_closed(block, units_of(parts)):
         return parts
-    units, is_squeezed = parts[0]
-    if len(parts) > 1 or is_squeezed:
+    if len(parts) > 1:
         return None
+    # a squeezed part is closed by itself, so this is an attachment as it is
+    units, _ = parts[0]
     return (SIDE, units[0])
 
 

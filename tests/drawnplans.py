@@ -79,6 +79,8 @@ select t.a, s.c from t left join s on t.b = s.a and s.c = 1
 select t.a, s.c from t left join s on t.a = s.a where s.c is null or s.c > t.b
 select t.a, s.c, p.k from t left join s on t.a = s.a left join p on p.k = s.c
 select t.a, s.c, p.k from t left join s on t.a = s.a and s.y > t.x left join p on p.k = t.b where maybe [s.c < p.k]
+select t.x, s.y from t left join s on s.a = t.a and s.c = t.a
+select t.x from t where not exists (from s where s.a = t.b and s.c = t.b)
 select t.a, t.x from t where exists (from s where s.a = t.a)
 select t.a, t.x from t where exists (from s where s.a = t.a and s.c = 1 and s.y > t.x)
 select t.a, t.x from t where not exists (from s where s.a = t.b)

@@ -81,6 +81,19 @@ class LeastTest(helper.Case):
         found = least(block, WORDS)
         self.same(set(words_of(found.top)), {"give", "loop", "scan"})
 
+    def test_two_pairs(self):
+        """Two pairs with one first mark: the merge by the better one, whichever it is."""
+        house = helper.store()
+        house.retell("t", (("rows", 100), ("fan", ("a",), 50), ("lies", ("a",))))
+        house.add_index("s", "one", ("a",))
+        house.add_index("s", "two", ("c",))
+        for tight, loose, ixname in (("a", "c", "one"), ("c", "a", "two")):
+            house.retell("s", (("rows", 100), ("fan", (loose,), 60), ("fan", (tight,), 40)))
+            block = helper.block(house, "select t.x from t left join s on s.a = t.a and s.c = t.a")
+            found = least(block, ("hash", "look"))
+            self.same((found.top, found.price), (("give", ("merge", T, ("walk", 1, ixname))), 8500))
+            self.same(found.price, min(price for price, _, _ in Every(block, ("hash", "look")).tops))
+
     def test_beside_all_plans(self):
         """The least price beside that of all plans, for questions of each kind, with some words barred."""
         chance = random.Random(70)

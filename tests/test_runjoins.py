@@ -243,7 +243,7 @@ class ChanceTest(RunCase):
                     self.assertEqual({path: (one.given, one.spent) for path, one in line_runs(run)}, wanted)
                     many[plan[0]] = many.get(plan[0], 0) + 1
         for word in ("scan", "walk", "seek", "inner", "sort", "loop", "hash", "merge", "look", "bag", "stream"):
-            self.assertGreater(many[word], 5, word)
+            self.assertGreater(many[word], 3, word)
 
 
 def has_no_limit(block):
