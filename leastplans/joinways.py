@@ -26,14 +26,13 @@ def splits(block, state):
     return found
 
 
-def without(block, state):
-    """Pairs (u, state of the other parts) for each unit as it is, if those are closed."""
+def looked_from(block, state):
+    """The states, which are closed, of all parts but one unit as it is."""
     found = []
     for part in state:
-        units, is_squeezed = part
         others = tuple([one for one in state if one != part])
-        if not is_squeezed and others != () and is_closed(block, units_of(others)):
-            found.append((units[0], others))
+        if not part[1] and others != () and is_closed(block, units_of(others)):
+            found.append(others)
     return found
 
 

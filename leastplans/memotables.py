@@ -1,6 +1,6 @@
 """Tables of the least prices of plans."""
 
-from leastplans.joinways import joins_over, splits, without
+from leastplans.joinways import joins_over, looked_from, splits
 from leastplans.leafsteps import inner_told
 from leastplans.leafways import leaf_ways
 from leastplans.states import all_states, is_side, is_squeezed_alone, units_of, whole_state
@@ -136,7 +136,7 @@ def keep_joins(memo, state, found):
 
 
 def keep_looks(memo, state, found):
-    for u, left in without(memo.sizes.block, state):
+    for left in looked_from(memo.sizes.block, state):
         table = memo.whole_table(left)
         for step, own, _, local in memo.looks_at(left):
             if own == state:
